@@ -1,0 +1,1 @@
+"""Leftwithout: guests who take one of two places, or go without."""

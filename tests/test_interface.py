@@ -1,0 +1,60 @@
+"""[27]: names and arguments, and that each is defined in its own file."""
+
+import ast
+import importlib
+import inspect
+import unittest
+
+INTERFACE = {
+    "errors": {
+        "NoGuest": ("guest",), "NoPlace": ("place",), "NothingDone": (), "BadText": ("line",), "CanNot": (),
+        "TooMany": (), "Unfit": (),
+    },
+    "signs": {"pieces": ("text",), "text_of": ("pieces",), "number_of": ("piece",), "piece_of": ("number",)},
+    "webs": {
+        "is_web": ("thing",), "is_word": ("thing",), "sizes": ("web",), "wanted": ("web", "guest"),
+        "other_end": ("web", "guest"), "ends": ("web", "guest"), "guests_at": ("web", "place"),
+        "wanting": ("web", "place"), "unwanted": ("web",), "beside": ("web", "place"),
+        "between": ("web", "place", "other"), "line_of": ("word",), "table_of": ("word",), "word_of": ("web",),
+    },
+    "runs": {
+        "is_row": ("web", "thing"), "is_order": ("web", "thing"), "seated": ("web", "row"),
+        "outcome_of": ("web", "order"), "moments": ("web", "row"), "free_places": ("web", "row"),
+        "without_of": ("web", "row"), "pleased_of": ("web", "row"), "next_seat": ("web", "row", "guest"),
+        "found_gone": ("web", "row"),
+    },
+}
+
+
+class Interface(unittest.TestCase):
+    def test_arguments(self):
+        for file, names in INTERFACE.items():
+            module = importlib.import_module("leftwithout." + file)
+            for name, arguments in names.items():
+                with self.subTest(file, name=name):
+                    told = getattr(module, name)
+                    if inspect.isfunction(told):
+                        self.check_arguments(told, arguments)
+                    elif arguments:
+                        self.check_arguments(told.__init__, ("self",) + arguments)
+
+    def check_arguments(self, function, arguments):
+        parameters = inspect.signature(function).parameters.values()
+        self.assertEqual(tuple(own.name for own in parameters), arguments)
+        for own in parameters:
+            self.assertEqual(own.kind, own.POSITIONAL_OR_KEYWORD)
+            self.assertIs(own.default, own.empty)
+
+    def test_defined_in_the_file(self):
+        for file, names in INTERFACE.items():
+            module = importlib.import_module("leftwithout." + file)
+            with open(module.__file__, encoding="utf-8") as source:
+                tree = ast.parse(source.read())
+            kind = ast.ClassDef if file == "errors" else ast.FunctionDef
+            defined = {node.name for node in tree.body if isinstance(node, kind)}
+            with self.subTest(file):
+                self.assertEqual(set(names) - defined, set())
+
+
+if __name__ == "__main__":
+    unittest.main()
