@@ -28,3 +28,15 @@ def need_number(value):
     """Raise Unfit() if value is no number."""
     if not is_number(value):
         raise Unfit()
+
+
+def is_set_below(value, many):
+    """Whether value is a set of numbers from 0 on, all below many."""
+    if not is_numbers(value) or list(value) != sorted(set(value)):
+        return False
+    return all([0 <= own < many for own in value])
+
+
+def is_each_below(value, many):
+    """Whether value is a tuple of all numbers from 0 on below many, each once."""
+    return is_numbers(value) and sorted(value) == list(range(many))

@@ -11,12 +11,19 @@ def is_web(thing):
     many, guests = thing
     if not is_number(many) or many < 1 or not isinstance(guests, tuple):
         return False
-    return all([_is_guest(many, pair) for pair in guests])
+    return all([is_guest_among(many, pair) for pair in guests])
 
 
 def is_word(thing):
     """Whether thing is a WORD."""
     return is_numbers(thing) and thing != () and all([side in (0, 1) for side in thing])
+
+
+def is_guest_among(many, pair):
+    """Whether pair is a GUEST of a WEB of so many PLACES."""
+    if not is_numbers(pair) or len(pair) != 2:
+        return False
+    return 0 <= min(pair) < max(pair) < many
 
 
 def need_web(web):
@@ -131,13 +138,6 @@ def word_of(web):
     if len(word) > 1 and table_of(word) == web:
         return ("table", word)
     raise CanNot()
-
-
-def _is_guest(many, pair):
-    """Whether pair is a GUEST of a WEB of so many PLACES."""
-    if not is_numbers(pair) or len(pair) != 2:
-        return False
-    return 0 <= min(pair) < max(pair) < many
 
 
 def _pair_of(web, guest):

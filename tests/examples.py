@@ -11,7 +11,7 @@ import re
 def check_examples(case, names, text):
     """Let the test case fail for each example of the text that does not hold."""
     names = dict(names)
-    lines = [line.strip() for line in text.strip().split("\n")]
+    lines = [line.strip() for line in text.split("\n") if line.strip()]
     for k, line in enumerate(lines):
         if line.startswith(">>> "):
             told = lines[k + 1] if k + 1 < len(lines) else ">>>"

@@ -1,6 +1,8 @@
-"""Small webs, rows and texts to go through, and values of wrong kinds."""
+"""Small webs, rows and texts to go through, runs by hand, and values of wrong kinds."""
 
-from itertools import permutations, product
+from functools import lru_cache
+from itertools import combinations, combinations_with_replacement, permutations, product
+from random import Random
 
 
 def small_webs(most_places=3, most_guests=3):
@@ -10,6 +12,44 @@ def small_webs(most_places=3, most_guests=3):
         for count in range(most_guests + 1):
             for guests in product(pairs, repeat=count):
                 yield (many, guests)
+
+
+@lru_cache(maxsize=None)
+def few_webs(most_places=4, most_guests=4):
+    """The WEBS with at most so many PLACES and GUESTS, one for all that differ in the order of GUESTS."""
+    found = []
+    for many in range(1, most_places + 1):
+        pairs = list(permutations(range(many), 2))
+        for count in range(most_guests + 1):
+            found += [(many, guests) for guests in combinations_with_replacement(pairs, count)]
+    return tuple(found)
+
+
+def great_webs(count=60, places=40, guests=40):
+    """So many WEBS with that many PLACES and up to that many GUESTS, the same ones each time."""
+    luck = Random(7)
+    for _ in range(count):
+        own = [tuple(luck.sample(range(places), 2)) for _ in range(luck.randint(guests // 4, guests))]
+        yield (places, tuple(own))
+
+
+def sets_of(many):
+    """All sets of numbers from 0 on below many."""
+    for long in range(many + 1):
+        yield from combinations(range(many), long)
+
+
+def lots_of(web):
+    """All LOTS of the WEB."""
+    return sets_of(len(web[1]))
+
+
+def takings_of(web):
+    """All TAKINGS of the WEB."""
+    for taking in product(*[(None,) + pair for pair in web[1]]):
+        had = [place for place in taking if place is not None]
+        if len({*had}) == len(had):
+            yield taking
 
 
 def rows_of(web):
@@ -22,6 +62,43 @@ def rows_of(web):
 def orders_of(web):
     """All ORDERS of the WEB."""
     return permutations(range(len(web[1])))
+
+
+def seats_by_hand(web, row):
+    """Told one by one: (guest, its place or None) in the order of the row."""
+    free, told = dict.fromkeys(range(web[0]), True), []
+    for guest in row:
+        wish, other = web[1][guest]
+        place = wish if wish in free else other if other in free else None
+        free.pop(place, None)
+        told.append((guest, place))
+    return told
+
+
+@lru_cache(maxsize=None)
+def free_by_lot(web):
+    """Each LOT that is WITHOUT by some ORDER, with the set of what such ORDERS leave free."""
+    found = {}
+    for order in orders_of(web):
+        told = seats_by_hand(web, order)
+        lot = tuple(sorted(guest for guest, place in told if place is None))
+        taken = [place for _, place in told]
+        found.setdefault(lot, set()).add(tuple(place for place in range(web[0]) if place not in taken))
+    return found
+
+
+def parts_by_hand(web, lot):
+    """The PARTS, put together GUEST by GUEST."""
+    found = [{place} for place in range(web[0])]
+    for guest in lot:
+        met = [part for part in found if part & {*web[1][guest]}]
+        found = [part for part in found if part not in met] + [set().union(*met)]
+    return tuple(sorted(tuple(sorted(part)) for part in found))
+
+
+def guests_by_hand(web, lot, part):
+    """The GUESTS of the LOT that end in the PART."""
+    return tuple(guest for guest in lot if {*web[1][guest]} & {*part})
 
 
 def small_words(longest=5):
@@ -62,7 +139,7 @@ def nested(levels):
 
 NO_NUMBERS = (None, True, False, "0", "", b"0", 0.0, 1.0, (), (0,), [], [0], {}, {0: 0}, {0}, object())
 
-# These are no WEB, no WORD, no ROW and no ORDER of any WEB.
+# These are no WEB, no WORD, no ROW, no ORDER and no LOT of any WEB.
 NOTHING_AT_ALL = (
     None, True, False, 0, 1, -1, 2.0, "", "ab", "01", b"", b"\x01", {}, {0: 1, 1: 0}, {0, 1}, frozenset((0,)),
     range(2), object(), iter(()), ("0",), (None,), (True,), (0, False), (1.0,), ((0,),), [[0]], ([],),
@@ -76,5 +153,11 @@ NO_WEBS = NOTHING_AT_ALL + (
     (2, ((-1, 0),)), (2, ((0, -1),)), (2, ((True, 0),)), (2, ((1, False),)), (2, ((0, 1.0),)), (2, ((0, None),)),
     (2, (((0,), 1),)), (2, ((0, 1), (0, 2))), (2, ((0, 1), None)), (1, ((0, 1),)), (2, ({0, 1},)), (2, ({0: 1, 1: 0},)),
 )
+
+NO_ROWS = NOTHING_AT_ALL + ((0, 0), (1, 2, 1), (5,), (-1,), (0, 5), [0, True], (0, [1]))
+
+NO_ORDERS = NO_ROWS + ((), (0, 1, 2, 3), (0, 1, 2, 3, 4, 4), [1, 2, 3, 4, 5])
+
+NO_LOTS = NO_ROWS + ((1, 0), (0, 2, 1), (4, 5), (0, 1, 1), [2, 2], (0, None), (0, "1"))
 
 NO_WORDS = NOTHING_AT_ALL + ((), [], (2,), (-1,), (0, 2), (0, -1), (0, True), (0, None), (0, 1.0), (0, (1,)), (0, "1"))

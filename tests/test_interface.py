@@ -23,6 +23,28 @@ INTERFACE = {
         "without_of": ("web", "row"), "pleased_of": ("web", "row"), "next_seat": ("web", "row", "guest"),
         "found_gone": ("web", "row"),
     },
+    "parts": {
+        "is_lot": ("web", "thing"), "others": ("web", "lot"), "parts": ("web", "lot"), "part_of": ("web", "lot", "place"),
+        "guests_of_part": ("web", "lot", "place"), "kind_of_part": ("web", "lot", "place"), "trees": ("web", "lot"),
+        "round_in": ("web", "lot", "place"), "is_round": ("web", "lot", "thing"), "most_seated": ("web", "lot"),
+        "can_all_sit": ("web", "lot"),
+    },
+    "changed": {
+        "renamed": ("web", "places", "guests"), "taking_renamed": ("web", "taking", "places", "guests"),
+        "put_beside": ("web", "other"), "put_together": ("web", "other", "place", "goal"), "guest_more": ("web", "guest"),
+        "guest_less": ("web", "guest"), "turned": ("web", "lot"), "kept_guests": ("web", "lot"),
+    },
+    "lots": {
+        "can_be_without": ("web", "lot"), "order_for": ("web", "lot"), "is_order_for": ("web", "lot", "thing"),
+        "why_not": ("web", "lot"), "is_why_not": ("web", "lot", "thing"), "spare_places": ("web", "lot"),
+        "how_many_free": ("web", "lot"), "order_leaving": ("web", "lot", "places"),
+    },
+    "together": {
+        "can_together": ("web", "lot"), "never_without": ("web",), "rivals": ("web", "guest"), "lot_with": ("web", "lot"),
+        "order_with": ("web", "lot"), "is_order_with": ("web", "lot", "thing"), "why_never": ("web", "lot"),
+        "is_why_never": ("web", "lot", "thing"),
+    },
+    "takings": {"is_taking": ("web", "thing")},
 }
 
 

@@ -1,48 +1,82 @@
-"""[2] and [3]: what holds for every function of webs.py and runs.py.
+"""[2] and [3]: what holds for every function of the modules that work on WEBS.
 
 Lists for tuples, names for positions, nothing handed in is changed, and
 refusals in the order in which the document states them.
 """
 
 import copy
+import inspect
 import unittest
 from itertools import product
 
-from small import NO_NUMBERS, NO_WEBS, NO_WORDS, NOTHING_AT_ALL, as_lists, as_mixed
+from small import NO_LOTS, NO_NUMBERS, NO_ORDERS, NO_ROWS, NO_WEBS, NO_WORDS, NOTHING_AT_ALL, as_lists, as_mixed
 
-from leftwithout import runs, webs
+from leftwithout import changed, lots, parts, runs, takings, together, webs
 from leftwithout.errors import CanNot, NoGuest, NoPlace, Unfit
 
 HALL = (5, ((0, 1), (2, 1), (2, 0), (3, 1), (1, 3)))
 LINE = (4, ((0, 1), (2, 1), (3, 2)))
+BENCH = (3, ((1, 0), (1, 2), (1, 0)))
 
-# Each function with the kinds of its arguments; the name of an argument is
-# its kind, but for "other", which is a place.
+# Each function with the kinds of its arguments. Two kinds of one name are told
+# apart by a word behind it: a goal is a place of the other web, an each a
+# tuple of all numbers, a set a set of places, a pair a guest that is to come.
 FUNCTIONS = (
     (webs.sizes, ("web",)), (webs.unwanted, ("web",)), (webs.wanted, ("web", "guest")),
     (webs.other_end, ("web", "guest")), (webs.ends, ("web", "guest")), (webs.guests_at, ("web", "place")),
-    (webs.wanting, ("web", "place")), (webs.beside, ("web", "place")), (webs.between, ("web", "place", "other")),
+    (webs.wanting, ("web", "place")), (webs.beside, ("web", "place")), (webs.between, ("web", "place", "place")),
     (webs.line_of, ("word",)), (webs.table_of, ("word",)), (webs.word_of, ("web",)),
     (runs.seated, ("web", "row")), (runs.outcome_of, ("web", "order")), (runs.moments, ("web", "row")),
     (runs.free_places, ("web", "row")), (runs.without_of, ("web", "row")), (runs.pleased_of, ("web", "row")),
     (runs.next_seat, ("web", "row", "guest")), (runs.found_gone, ("web", "row")),
     (runs.is_row, ("web", "thing")), (runs.is_order, ("web", "thing")),
+    (parts.is_lot, ("web", "thing")), (parts.others, ("web", "lot")), (parts.parts, ("web", "lot")),
+    (parts.part_of, ("web", "lot", "place")), (parts.guests_of_part, ("web", "lot", "place")),
+    (parts.kind_of_part, ("web", "lot", "place")), (parts.trees, ("web", "lot")),
+    (parts.round_in, ("web", "lot", "place")), (parts.is_round, ("web", "lot", "thing")),
+    (parts.most_seated, ("web", "lot")), (parts.can_all_sit, ("web", "lot")), (takings.is_taking, ("web", "thing")),
+    (changed.renamed, ("web", "place each", "guest each")),
+    (changed.taking_renamed, ("web", "taking", "place each", "guest each")), (changed.put_beside, ("web", "other web")),
+    (changed.put_together, ("web", "other web", "place", "goal")), (changed.guest_more, ("web", "pair")),
+    (changed.guest_less, ("web", "guest")), (changed.turned, ("web", "lot")), (changed.kept_guests, ("web", "lot")),
+    (lots.can_be_without, ("web", "lot")), (lots.order_for, ("web", "lot")), (lots.is_order_for, ("web", "lot", "thing")),
+    (lots.why_not, ("web", "lot")), (lots.is_why_not, ("web", "lot", "thing")), (lots.spare_places, ("web", "lot")),
+    (lots.how_many_free, ("web", "lot")), (lots.order_leaving, ("web", "lot", "set")),
+    (together.can_together, ("web", "lot")), (together.never_without, ("web",)), (together.rivals, ("web", "guest")),
+    (together.lot_with, ("web", "lot")), (together.order_with, ("web", "lot")),
+    (together.is_order_with, ("web", "lot", "thing")), (together.why_never, ("web", "lot")),
+    (together.is_why_never, ("web", "lot", "thing")),
 )
+
+# One that fits the HALL, and BENCH as the other web.
+FITS = {
+    "web": HALL, "other web": BENCH, "word": (0, 1), "guest": 4, "place": 3, "goal": 1, "row": (2, 1),
+    "order": (4, 2, 1, 0, 3), "lot": (1, 3), "taking": (0, None, None, 3, 1), "place each": (4, 2, 0, 1, 3),
+    "guest each": (1, 0, 2, 4, 3), "pair": (4, 0), "set": (4,), "thing": (0, 1),
+}
 
 GOOD = {
     "web": (HALL, LINE, (1, ()), (2, ((1, 0),))), "word": ((0, 1, 1), (1, 0)), "guest": (0, 2, 4), "place": (0, 2, 4),
-    "other": (1, 4), "row": ((), (2, 1), (0, 1, 2, 3, 4)), "order": ((4, 2, 1, 0, 3), (0, 1, 2), ()), "thing": ((), (0, 1)),
+    "row": ((), (2, 1), (0, 1, 2, 3, 4)), "order": ((4, 2, 1, 0, 3), (0, 1, 2), ()),
+    "thing": ((), (0, 1), (0, 2, 1), ((0, 0), (1, 1))), "other web": (BENCH, (1, ())), "goal": (0, 1, 3),
+    "lot": ((), (1,), (0, 2), (0, 1, 2, 3, 4)), "taking": ((), (1, None, 3), FITS["taking"]),
+    "place each": (FITS["place each"], (3, 1, 0, 2), (0,)), "guest each": (FITS["guest each"], (1, 2, 0), ()),
+    "pair": ((0, 1), (3, 0), (4, 2)), "set": ((), (4,), (0, 2)),
 }
 
-NO_ROWS = NOTHING_AT_ALL + ((0, 0), (1, 2, 1), (5,), (-1,), (0, 5), [0, True], (0, [1]))
+NO_EACH = NOTHING_AT_ALL + ((), (0, 1, 2, 3), (1, 2, 3, 4, 5), [0, 0, 1, 2, 3], (0, 1, 2, 3, 4, 5), (0, True, 2, 3, 4))
 
 UNFIT = {
-    "web": NO_WEBS, "word": NO_WORDS, "guest": NO_NUMBERS, "place": NO_NUMBERS, "other": NO_NUMBERS, "row": NO_ROWS,
-    "order": NO_ROWS + ((), (0, 1, 2, 3), (0, 1, 2, 3, 4, 4), [1, 2, 3, 4, 5]),
+    "web": NO_WEBS, "word": NO_WORDS, "guest": NO_NUMBERS, "place": NO_NUMBERS, "row": NO_ROWS, "order": NO_ORDERS,
+    "lot": NO_LOTS, "other web": NO_WEBS, "goal": NO_NUMBERS, "place each": NO_EACH, "guest each": NO_EACH, "set": NO_LOTS,
+    "taking": NOTHING_AT_ALL + ((), (None,) * 4, (0, None, 0, None, None), [4, None, None, None, None]),
+    "pair": NOTHING_AT_ALL + ((), (0,), (1, 1), (0, 5), (-1, 0), [0, True], (0, 1, 2)),
 }
 
-NONE_OF_THE_WEB = {"guest": (NoGuest, (5, 9, -1, -5, 10 ** 6)), "place": (NoPlace, (5, 8, -1, -5, 10 ** 6))}
-NONE_OF_THE_WEB["other"] = NONE_OF_THE_WEB["place"]
+NONE_OF_THE_WEB = {
+    "guest": (NoGuest, (5, 9, -1, -5, 10 ** 6)), "place": (NoPlace, (5, 8, -1, -5, 10 ** 6)),
+    "goal": (NoPlace, (3, 4, -1, -3, 10 ** 6)),
+}
 
 
 def answer(function, values, **names):
@@ -59,6 +93,10 @@ def good_calls():
             yield function, kinds, values
 
 
+def names_of(function):
+    return tuple(inspect.signature(function).parameters)
+
+
 class Arguments(unittest.TestCase):
     def same(self, first, later):
         self.assertEqual(first, later)
@@ -68,33 +106,38 @@ class Arguments(unittest.TestCase):
     def test_lists_for_tuples(self):
         for function, kinds, values in good_calls():
             for change in (as_lists, as_mixed, lambda value: as_mixed(value, 1)):
-                changed = [own if kind == "thing" else change(own) for kind, own in zip(kinds, values)]
-                self.same(answer(function, changed), answer(function, values))
+                lists = [own if kind == "thing" else change(own) for kind, own in zip(kinds, values)]
+                self.same(answer(function, lists), answer(function, values))
 
     def test_by_names_in_any_order(self):
-        for function, kinds, values in good_calls():
-            told = dict(reversed(list(zip(kinds, values))))
+        for function, _, values in good_calls():
+            told = dict(reversed(list(zip(names_of(function), values))))
             self.same(answer(function, (), **told), answer(function, values))
-            rest = dict(zip(kinds[1:], values[1:]))
+            rest = dict(zip(names_of(function)[1:], values[1:]))
             self.same(answer(function, values[:1], **rest), answer(function, values))
 
     def test_nothing_handed_in_is_changed(self):
-        for function, kinds, values in good_calls():
-            changed = [as_lists(own) for own in values]
-            before = copy.deepcopy(changed)
-            answer(function, changed)
-            self.same(changed, before)
+        for function, _, values in good_calls():
+            lists = [as_lists(own) for own in values]
+            before = copy.deepcopy(lists)
+            answer(function, lists)
+            self.same(lists, before)
 
     def test_same_call_same_result(self):
-        for function, kinds, values in good_calls():
+        for function, _, values in good_calls():
             self.same(answer(function, values), answer(function, values))
 
-    def test_what_is_handed_in_later_changed_changes_no_result(self):
-        web, row = as_lists(HALL), [2, 1]
-        told = (webs.ends(web, 2), webs.word_of(as_lists(LINE)), runs.seated(web, row), runs.moments(web, row))
+    def test_what_is_handed_in_and_later_changed_changes_no_result(self):
+        web, row, lot, places = as_lists(HALL), [2, 1], [0, 1, 2], [4, 3, 2, 1, 0]
+        told = (
+            webs.ends(web, 2), webs.word_of(as_lists(LINE)), runs.seated(web, row), runs.moments(web, row),
+            parts.others(web, lot), parts.round_in(web, lot, 0), changed.renamed(web, places, places),
+            changed.put_beside(web, web), changed.guest_more(web, row), changed.turned(web, []), together.lot_with(web, [2]),
+        )
         before = copy.deepcopy(told)
         web[1][2][0] = 4
-        row.append(0)
+        for own in (row, lot, places):
+            own.append(0)
         self.same(told, before)
 
     def test_results_are_of_tuples(self):
@@ -105,15 +148,13 @@ class Arguments(unittest.TestCase):
 
 
 class Refusals(unittest.TestCase):
-    """The hall is the web of all these calls; good numbers and rows are those of it."""
-
-    fits = {"web": HALL, "word": (0, 1), "guest": 4, "place": 3, "other": 1, "row": (2, 1), "order": (4, 2, 1, 0, 3)}
+    """The HALL is the web of all these calls, BENCH the other one; what fits is told above."""
 
     def test_unfit_alone(self):
         for function, kinds in FUNCTIONS:
             for at, kind in enumerate(kinds):
                 for k, wrong in enumerate(UNFIT.get(kind, ())):
-                    values = [self.fits.get(own) for own in kinds]
+                    values = [FITS[own] for own in kinds]
                     values[at] = wrong
                     with self.subTest(function.__name__, kind=kind, k=k):
                         self.assertEqual(answer(function, values), (Unfit, {}))
@@ -123,7 +164,7 @@ class Refusals(unittest.TestCase):
             for at, kind in enumerate(kinds):
                 error, numbers = NONE_OF_THE_WEB.get(kind, (None, ()))
                 for number in numbers:
-                    values = [self.fits.get(own) for own in kinds]
+                    values = [FITS[own] for own in kinds]
                     values[at] = number
                     with self.subTest(function.__name__, kind=kind, number=number):
                         keeps = {"guest" if error is NoGuest else "place": number}
@@ -131,7 +172,7 @@ class Refusals(unittest.TestCase):
 
     def test_several_at_once(self):
         for function, kinds in FUNCTIONS:
-            choices = [[("fits", self.fits.get(kind))] + self.wrong_ones(kind) for kind in kinds]
+            choices = [[("fits", FITS[kind])] + self.wrong_ones(kind) for kind in kinds]
             for chosen in product(*choices):
                 states = [state for state, _ in chosen]
                 if states.count("fits") < len(states):
@@ -139,8 +180,9 @@ class Refusals(unittest.TestCase):
                         self.assertEqual(answer(function, [own for _, own in chosen]), self.told(kinds, chosen))
 
     def wrong_ones(self, kind):
-        unfit = {"web": [(0, ()), None], "row": [(0, 0), None], "order": [(2, 1), None], "word": [(), None]}
-        found = [("unfit", own) for own in unfit.get(kind, [True, "0"] if kind in NONE_OF_THE_WEB else [])]
+        if kind == "thing":
+            return [("fits", None), ("fits", "a")]
+        found = [("unfit", own) for own in (UNFIT[kind][0], UNFIT[kind][-1])]
         return found + [("none", own) for own in NONE_OF_THE_WEB.get(kind, (None, ()))[1][:3]]
 
     def told(self, kinds, chosen):

@@ -4,7 +4,7 @@ import unittest
 from itertools import product
 
 from examples import check_examples
-from small import NO_WEBS, NOTHING_AT_ALL, orders_of, rows_of, small_webs
+from small import NO_WEBS, NOTHING_AT_ALL, orders_of, rows_of, seats_by_hand, small_webs
 
 from leftwithout import errors, runs
 from leftwithout.errors import CanNot, NoGuest, Unfit
@@ -33,17 +33,6 @@ raises Unfit()
 '''
 
 HALL = (5, ((0, 1), (2, 1), (2, 0), (3, 1), (1, 3)))
-
-
-def seats_by_hand(web, row):
-    """Told one by one: (guest, its place or None) in the order of the row."""
-    free, told = dict.fromkeys(range(web[0]), True), []
-    for guest in row:
-        wish, other = web[1][guest]
-        place = wish if wish in free else other if other in free else None
-        free.pop(place, None)
-        told.append((guest, place))
-    return told
 
 
 class Examples(unittest.TestCase):
