@@ -87,6 +87,53 @@ def free_by_lot(web):
     return found
 
 
+def outcome_by_hand(web, order):
+    """The OUTCOME of the ORDER."""
+    return tuple(place for _, place in sorted(seats_by_hand(web, order)))
+
+
+@lru_cache(maxsize=None)
+def orders_by_outcome(web):
+    """Each OUTCOME with the tuple, ascending, of the ORDERS that lead to it."""
+    found = {}
+    for order in orders_of(web):
+        found.setdefault(outcome_by_hand(web, order), []).append(order)
+    return {outcome: tuple(orders) for outcome, orders in found.items()}
+
+
+def arrows_by_hand(web, taking):
+    """The ARROWS, pair by pair as they are told."""
+    found = set()
+    for first, later in permutations(range(len(taking)), 2):
+        wish, other = web[1][later]
+        finds = {other: (wish,), None: (wish, other)}.get(taking[later], ())
+        if taking[first] is not None and taking[first] in finds:
+            found.add((first, later))
+    return found
+
+
+def lacking_by_hand(web, taking):
+    """The GUESTS that have not what they rather had, though nobody has it."""
+    found = []
+    for guest, (wish, other) in enumerate(web[1]):
+        if taking[guest] == other and wish not in taking:
+            found.append(guest)
+        if taking[guest] is None and (wish not in taking or other not in taking):
+            found.append(guest)
+    return tuple(found)
+
+
+def rings_by_hand(web, taking):
+    """All RINGS, each told from each of its GUESTS on."""
+    arrows, found = arrows_by_hand(web, taking), set()
+    for long in range(2, len(taking) + 1):
+        for guests in permutations(range(len(taking)), long):
+            ring = guests + guests[:1]
+            if all(pair in arrows for pair in zip(ring, ring[1:])):
+                found.add(ring)
+    return found
+
+
 def parts_by_hand(web, lot):
     """The PARTS, put together GUEST by GUEST."""
     found = [{place} for place in range(web[0])]

@@ -5,8 +5,8 @@ from itertools import permutations, product
 
 from examples import check_examples
 from small import (
-    NO_WEBS, NOTHING_AT_ALL, few_webs, free_by_lot, great_webs, lots_of, orders_of, parts_by_hand, seats_by_hand, small_webs,
-    takings_of,
+    NO_WEBS, NOTHING_AT_ALL, few_webs, free_by_lot, great_webs, lots_of, orders_of, outcome_by_hand, parts_by_hand,
+    small_webs, takings_of,
 )
 
 from leftwithout import changed, errors
@@ -39,10 +39,6 @@ raises Unfit()
 '''
 
 HALL, BENCH = (3, ((0, 1), (2, 1), (2, 0))), (2, ((1, 0),))
-
-
-def outcome_by_hand(web, order):
-    return tuple(place for _, place in sorted(seats_by_hand(web, order)))
 
 
 def namings(web):

@@ -44,7 +44,31 @@ INTERFACE = {
         "order_with": ("web", "lot"), "is_order_with": ("web", "lot", "thing"), "why_never": ("web", "lot"),
         "is_why_never": ("web", "lot", "thing"),
     },
-    "takings": {"is_taking": ("web", "thing")},
+    "takings": {
+        "is_taking": ("web", "thing"), "arrows": ("web", "taking"), "lacking": ("web", "taking"),
+        "is_sound": ("web", "taking"), "holder": ("web", "taking", "place"), "is_outcome": ("web", "taking"),
+        "order_of": ("web", "taking"), "is_order_of": ("web", "taking", "thing"),
+        "behind_whom": ("web", "taking", "guest"),
+    },
+    "rings": {
+        "ring": ("web", "taking"), "is_ring": ("web", "taking", "thing"), "rings": ("web", "taking"),
+        "why_no_outcome": ("web", "taking"), "is_why_no_outcome": ("web", "taking", "thing"),
+        "exchanges": ("web", "order", "other"), "led_to": ("web", "outcome", "goal"),
+        "is_led_to": ("web", "outcome", "goal", "thing"), "turned_ring": ("web", "taking", "ring"),
+    },
+    "orders": {
+        "sizes_of": ("web", "outcome"), "how_many_orders": ("web", "outcome"),
+        "must_come_behind": ("web", "outcome", "guest"), "fewest_ahead": ("web", "outcome", "guest"),
+        "most_ahead": ("web", "outcome", "guest"), "can_come_first": ("web", "outcome"),
+        "can_come_last": ("web", "outcome"), "how_many_first": ("web", "outcome", "guest"),
+        "how_many_last": ("web", "outcome", "guest"), "how_many_ahead": ("web", "outcome", "guest", "goal"),
+    },
+    "numbered": {
+        "order_at": ("web", "outcome", "number"), "order_number": ("web", "outcome", "order"),
+        "next_order": ("web", "outcome", "order"), "order_ahead": ("web", "outcome", "order"),
+        "least_order": ("web", "outcome"), "greatest_order": ("web", "outcome"), "all_orders": ("web", "outcome"),
+        "step_to": ("web", "outcome", "order", "goal"),
+    },
 }
 
 

@@ -11,8 +11,8 @@ from itertools import product
 
 from small import NO_LOTS, NO_NUMBERS, NO_ORDERS, NO_ROWS, NO_WEBS, NO_WORDS, NOTHING_AT_ALL, as_lists, as_mixed
 
-from leftwithout import changed, lots, parts, runs, takings, together, webs
-from leftwithout.errors import CanNot, NoGuest, NoPlace, Unfit
+from leftwithout import changed, lots, numbered, orders, parts, rings, runs, takings, together, webs
+from leftwithout.errors import CanNot, NoGuest, NoPlace, TooMany, Unfit
 
 HALL = (5, ((0, 1), (2, 1), (2, 0), (3, 1), (1, 3)))
 LINE = (4, ((0, 1), (2, 1), (3, 2)))
@@ -20,7 +20,8 @@ BENCH = (3, ((1, 0), (1, 2), (1, 0)))
 
 # Each function with the kinds of its arguments. Two kinds of one name are told
 # apart by a word behind it: a goal is a place of the other web, an each a
-# tuple of all numbers, a set a set of places, a pair a guest that is to come.
+# tuple of all numbers, a set a set of places, a pair a guest that is to come,
+# a count a number from 0.
 FUNCTIONS = (
     (webs.sizes, ("web",)), (webs.unwanted, ("web",)), (webs.wanted, ("web", "guest")),
     (webs.other_end, ("web", "guest")), (webs.ends, ("web", "guest")), (webs.guests_at, ("web", "place")),
@@ -46,13 +47,33 @@ FUNCTIONS = (
     (together.lot_with, ("web", "lot")), (together.order_with, ("web", "lot")),
     (together.is_order_with, ("web", "lot", "thing")), (together.why_never, ("web", "lot")),
     (together.is_why_never, ("web", "lot", "thing")),
+    (takings.arrows, ("web", "taking")), (takings.lacking, ("web", "taking")), (takings.is_sound, ("web", "taking")),
+    (takings.holder, ("web", "taking", "place")), (takings.is_outcome, ("web", "taking")),
+    (takings.order_of, ("web", "taking")), (takings.is_order_of, ("web", "taking", "thing")),
+    (takings.behind_whom, ("web", "taking", "guest")),
+    (rings.ring, ("web", "taking")), (rings.is_ring, ("web", "taking", "thing")), (rings.rings, ("web", "taking")),
+    (rings.why_no_outcome, ("web", "taking")), (rings.is_why_no_outcome, ("web", "taking", "thing")),
+    (rings.exchanges, ("web", "order", "order")), (rings.led_to, ("web", "outcome", "outcome")),
+    (rings.is_led_to, ("web", "outcome", "outcome", "thing")), (rings.turned_ring, ("web", "taking", "ring")),
+    (orders.sizes_of, ("web", "outcome")), (orders.how_many_orders, ("web", "outcome")),
+    (orders.must_come_behind, ("web", "outcome", "guest")), (orders.fewest_ahead, ("web", "outcome", "guest")),
+    (orders.most_ahead, ("web", "outcome", "guest")), (orders.can_come_first, ("web", "outcome")),
+    (orders.can_come_last, ("web", "outcome")), (orders.how_many_first, ("web", "outcome", "guest")),
+    (orders.how_many_last, ("web", "outcome", "guest")), (orders.how_many_ahead, ("web", "outcome", "guest", "guest")),
+    (numbered.order_at, ("web", "outcome", "count")), (numbered.order_number, ("web", "outcome", "order")),
+    (numbered.next_order, ("web", "outcome", "order")), (numbered.order_ahead, ("web", "outcome", "order")),
+    (numbered.least_order, ("web", "outcome")), (numbered.greatest_order, ("web", "outcome")),
+    (numbered.all_orders, ("web", "outcome")), (numbered.step_to, ("web", "outcome", "order", "order")),
 )
+
+LISTS = (rings.rings, numbered.all_orders)
 
 # One that fits the HALL, and BENCH as the other web.
 FITS = {
     "web": HALL, "other web": BENCH, "word": (0, 1), "guest": 4, "place": 3, "goal": 1, "row": (2, 1),
-    "order": (4, 2, 1, 0, 3), "lot": (1, 3), "taking": (0, None, None, 3, 1), "place each": (4, 2, 0, 1, 3),
-    "guest each": (1, 0, 2, 4, 3), "pair": (4, 0), "set": (4,), "thing": (0, 1),
+    "order": (4, 2, 1, 0, 3), "lot": (1, 3), "taking": (0, 2, None, 1, 3), "place each": (4, 2, 0, 1, 3),
+    "guest each": (1, 0, 2, 4, 3), "pair": (4, 0), "set": (4,), "thing": (0, 1), "outcome": (0, None, 2, 3, 1),
+    "ring": (3, 4, 3), "count": 5,
 }
 
 GOOD = {
@@ -61,15 +82,19 @@ GOOD = {
     "thing": ((), (0, 1), (0, 2, 1), ((0, 0), (1, 1))), "other web": (BENCH, (1, ())), "goal": (0, 1, 3),
     "lot": ((), (1,), (0, 2), (0, 1, 2, 3, 4)), "taking": ((), (1, None, 3), FITS["taking"]),
     "place each": (FITS["place each"], (3, 1, 0, 2), (0,)), "guest each": (FITS["guest each"], (1, 2, 0), ()),
-    "pair": ((0, 1), (3, 0), (4, 2)), "set": ((), (4,), (0, 2)),
+    "pair": ((0, 1), (3, 0), (4, 2)), "set": ((), (4,), (0, 2)), "outcome": (FITS["outcome"], (0, 2, 3), (), (1,)),
+    "ring": (FITS["ring"], (4, 3, 4), (0, 1, 0)), "count": (0, 1, 7),
 }
 
 NO_EACH = NOTHING_AT_ALL + ((), (0, 1, 2, 3), (1, 2, 3, 4, 5), [0, 0, 1, 2, 3], (0, 1, 2, 3, 4, 5), (0, True, 2, 3, 4))
 
+NO_TAKINGS = NOTHING_AT_ALL + ((), (None,) * 4, (0, None, 0, None, None), [4, None, None, None, None])
+
 UNFIT = {
     "web": NO_WEBS, "word": NO_WORDS, "guest": NO_NUMBERS, "place": NO_NUMBERS, "row": NO_ROWS, "order": NO_ORDERS,
     "lot": NO_LOTS, "other web": NO_WEBS, "goal": NO_NUMBERS, "place each": NO_EACH, "guest each": NO_EACH, "set": NO_LOTS,
-    "taking": NOTHING_AT_ALL + ((), (None,) * 4, (0, None, 0, None, None), [4, None, None, None, None]),
+    "taking": NO_TAKINGS, "outcome": NO_TAKINGS + ((None,) * 5, [0, 2, None, 1, 3], (0, 1, None, 3, None)),
+    "ring": NOTHING_AT_ALL + ((), (3, 4), (3, 4, 4), (0, 1, 0), (3, 4, 3, 4, 3), [4, True, 4]), "count": NO_NUMBERS + (-1, -5),
     "pair": NOTHING_AT_ALL + ((), (0,), (1, 1), (0, 5), (-1, 0), [0, True], (0, 1, 2)),
 }
 
@@ -83,7 +108,7 @@ def answer(function, values, **names):
     """What the call gives, or the error that it raises, with what it keeps."""
     try:
         return ("value", function(*values, **names))
-    except (CanNot, NoGuest, NoPlace, Unfit) as error:
+    except (CanNot, NoGuest, NoPlace, TooMany, Unfit) as error:
         return (error.__class__, vars(error))
 
 
@@ -128,15 +153,17 @@ class Arguments(unittest.TestCase):
             self.same(answer(function, values), answer(function, values))
 
     def test_what_is_handed_in_and_later_changed_changes_no_result(self):
-        web, row, lot, places = as_lists(HALL), [2, 1], [0, 1, 2], [4, 3, 2, 1, 0]
+        web, row, lot, places, outcome = as_lists(HALL), [2, 1], [0, 1, 2], [4, 3, 2, 1, 0], list(FITS["outcome"])
         told = (
             webs.ends(web, 2), webs.word_of(as_lists(LINE)), runs.seated(web, row), runs.moments(web, row),
             parts.others(web, lot), parts.round_in(web, lot, 0), changed.renamed(web, places, places),
             changed.put_beside(web, web), changed.guest_more(web, row), changed.turned(web, []), together.lot_with(web, [2]),
+            rings.why_no_outcome(web, [0, 2, None, 1, 3]), rings.led_to(web, outcome, outcome),
+            numbered.all_orders(web, outcome), orders.can_come_last(web, outcome),
         )
         before = copy.deepcopy(told)
         web[1][2][0] = 4
-        for own in (row, lot, places):
+        for own in (row, lot, places, outcome):
             own.append(0)
         self.same(told, before)
 
@@ -144,7 +171,17 @@ class Arguments(unittest.TestCase):
         for function, kinds, values in good_calls():
             kind, told = answer(function, [own if name == "thing" else as_lists(own) for name, own in zip(kinds, values)])
             if kind == "value":
-                self.assertNotIn("[", repr(told))
+                self.assertIs(isinstance(told, list), function in LISTS)
+                self.assertNotIn("[", repr(tuple(told) if function in LISTS else told))
+
+    def test_lists_that_come_back_belong_to_the_caller(self):
+        for function, _, values in good_calls():
+            if function in LISTS:
+                kind, told = answer(function, values)
+                if kind == "value":
+                    before = list(told)
+                    told.append(None)
+                    self.same(answer(function, values), ("value", before))
 
 
 class Refusals(unittest.TestCase):
