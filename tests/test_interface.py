@@ -69,6 +69,26 @@ INTERFACE = {
         "least_order": ("web", "outcome"), "greatest_order": ("web", "outcome"), "all_orders": ("web", "outcome"),
         "step_to": ("web", "outcome", "order", "goal"),
     },
+    "oneless": {
+        "less": ("web", "order", "guest"), "spare": ("web", "order", "guest"), "helped": ("web", "order", "guest"),
+        "helpers": ("web", "order", "guest"), "harmless": ("web", "order"),
+    },
+    "moved": {
+        "moved_way": ("web", "order", "guest"), "places_left": ("web", "order", "guest"),
+        "put_at": ("web", "order", "guest", "number"), "lost_and_won": ("web", "order", "guest", "number"),
+        "latest": ("web", "order", "guest"),
+    },
+    "stars": {
+        "star": ("web", "place"), "is_plain": ("web", "place"), "is_choice": ("web", "thing"), "all_choices": ("web",),
+        "can_stay_free": ("web", "places"), "never_free": ("web",), "order_free": ("web", "choice"),
+        "is_order_free": ("web", "choice", "thing"), "why_not_free": ("web", "places"),
+        "is_why_not_free": ("web", "places", "thing"),
+    },
+    "most": {
+        "fewest": ("web",), "most": ("web",), "tree_parts": ("web",), "greatest_choice": ("web",),
+        "fewest_order": ("web",), "can_be_so_many": ("web", "number"), "lot_of": ("web", "number"),
+        "order_so_many": ("web", "number"), "is_order_so_many": ("web", "number", "thing"),
+    },
 }
 
 

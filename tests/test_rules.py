@@ -11,7 +11,9 @@ from itertools import product
 
 from small import NO_LOTS, NO_NUMBERS, NO_ORDERS, NO_ROWS, NO_WEBS, NO_WORDS, NOTHING_AT_ALL, as_lists, as_mixed
 
-from leftwithout import changed, lots, numbered, orders, parts, rings, runs, takings, together, webs
+from leftwithout import (
+    changed, lots, most, moved, numbered, oneless, orders, parts, rings, runs, stars, takings, together, webs,
+)
 from leftwithout.errors import CanNot, NoGuest, NoPlace, TooMany, Unfit
 
 HALL = (5, ((0, 1), (2, 1), (2, 0), (3, 1), (1, 3)))
@@ -21,7 +23,7 @@ BENCH = (3, ((1, 0), (1, 2), (1, 0)))
 # Each function with the kinds of its arguments. Two kinds of one name are told
 # apart by a word behind it: a goal is a place of the other web, an each a
 # tuple of all numbers, a set a set of places, a pair a guest that is to come,
-# a count a number from 0.
+# a count a number from 0, any number fits as a number.
 FUNCTIONS = (
     (webs.sizes, ("web",)), (webs.unwanted, ("web",)), (webs.wanted, ("web", "guest")),
     (webs.other_end, ("web", "guest")), (webs.ends, ("web", "guest")), (webs.guests_at, ("web", "place")),
@@ -64,16 +66,29 @@ FUNCTIONS = (
     (numbered.next_order, ("web", "outcome", "order")), (numbered.order_ahead, ("web", "outcome", "order")),
     (numbered.least_order, ("web", "outcome")), (numbered.greatest_order, ("web", "outcome")),
     (numbered.all_orders, ("web", "outcome")), (numbered.step_to, ("web", "outcome", "order", "order")),
+    (oneless.less, ("web", "order", "guest")), (oneless.spare, ("web", "order", "guest")),
+    (oneless.helped, ("web", "order", "guest")), (oneless.helpers, ("web", "order", "guest")),
+    (oneless.harmless, ("web", "order")),
+    (moved.moved_way, ("web", "order", "guest")), (moved.places_left, ("web", "order", "guest")),
+    (moved.put_at, ("web", "order", "guest", "number")), (moved.lost_and_won, ("web", "order", "guest", "number")),
+    (moved.latest, ("web", "order", "guest")),
+    (stars.star, ("web", "place")), (stars.is_plain, ("web", "place")), (stars.is_choice, ("web", "thing")),
+    (stars.all_choices, ("web",)), (stars.can_stay_free, ("web", "set")), (stars.never_free, ("web",)),
+    (stars.order_free, ("web", "choice")), (stars.is_order_free, ("web", "choice", "thing")),
+    (stars.why_not_free, ("web", "set")), (stars.is_why_not_free, ("web", "set", "thing")),
+    (most.fewest, ("web",)), (most.most, ("web",)), (most.tree_parts, ("web",)), (most.greatest_choice, ("web",)),
+    (most.fewest_order, ("web",)), (most.can_be_so_many, ("web", "number")), (most.lot_of, ("web", "number")),
+    (most.order_so_many, ("web", "number")), (most.is_order_so_many, ("web", "number", "thing")),
 )
 
-LISTS = (rings.rings, numbered.all_orders)
+LISTS = (rings.rings, numbered.all_orders, oneless.less, stars.all_choices)
 
 # One that fits the HALL, and BENCH as the other web.
 FITS = {
     "web": HALL, "other web": BENCH, "word": (0, 1), "guest": 4, "place": 3, "goal": 1, "row": (2, 1),
     "order": (4, 2, 1, 0, 3), "lot": (1, 3), "taking": (0, 2, None, 1, 3), "place each": (4, 2, 0, 1, 3),
     "guest each": (1, 0, 2, 4, 3), "pair": (4, 0), "set": (4,), "thing": (0, 1), "outcome": (0, None, 2, 3, 1),
-    "ring": (3, 4, 3), "count": 5,
+    "ring": (3, 4, 3), "count": 5, "number": 1, "choice": (4,),
 }
 
 GOOD = {
@@ -83,7 +98,7 @@ GOOD = {
     "lot": ((), (1,), (0, 2), (0, 1, 2, 3, 4)), "taking": ((), (1, None, 3), FITS["taking"]),
     "place each": (FITS["place each"], (3, 1, 0, 2), (0,)), "guest each": (FITS["guest each"], (1, 2, 0), ()),
     "pair": ((0, 1), (3, 0), (4, 2)), "set": ((), (4,), (0, 2)), "outcome": (FITS["outcome"], (0, 2, 3), (), (1,)),
-    "ring": (FITS["ring"], (4, 3, 4), (0, 1, 0)), "count": (0, 1, 7),
+    "ring": (FITS["ring"], (4, 3, 4), (0, 1, 0)), "count": (0, 1, 7), "number": (0, 1, 2, -1), "choice": ((), (4,), (1, 3), (0,)),
 }
 
 NO_EACH = NOTHING_AT_ALL + ((), (0, 1, 2, 3), (1, 2, 3, 4, 5), [0, 0, 1, 2, 3], (0, 1, 2, 3, 4, 5), (0, True, 2, 3, 4))
@@ -95,6 +110,7 @@ UNFIT = {
     "lot": NO_LOTS, "other web": NO_WEBS, "goal": NO_NUMBERS, "place each": NO_EACH, "guest each": NO_EACH, "set": NO_LOTS,
     "taking": NO_TAKINGS, "outcome": NO_TAKINGS + ((None,) * 5, [0, 2, None, 1, 3], (0, 1, None, 3, None)),
     "ring": NOTHING_AT_ALL + ((), (3, 4), (3, 4, 4), (0, 1, 0), (3, 4, 3, 4, 3), [4, True, 4]), "count": NO_NUMBERS + (-1, -5),
+    "number": NO_NUMBERS, "choice": NO_LOTS + ((0,), (3, 4), [4, 4]),
     "pair": NOTHING_AT_ALL + ((), (0,), (1, 1), (0, 5), (-1, 0), [0, True], (0, 1, 2)),
 }
 
@@ -154,16 +170,19 @@ class Arguments(unittest.TestCase):
 
     def test_what_is_handed_in_and_later_changed_changes_no_result(self):
         web, row, lot, places, outcome = as_lists(HALL), [2, 1], [0, 1, 2], [4, 3, 2, 1, 0], list(FITS["outcome"])
+        order, choice = [4, 2, 1, 0, 3], [4]
         told = (
             webs.ends(web, 2), webs.word_of(as_lists(LINE)), runs.seated(web, row), runs.moments(web, row),
             parts.others(web, lot), parts.round_in(web, lot, 0), changed.renamed(web, places, places),
             changed.put_beside(web, web), changed.guest_more(web, row), changed.turned(web, []), together.lot_with(web, [2]),
             rings.why_no_outcome(web, [0, 2, None, 1, 3]), rings.led_to(web, outcome, outcome),
             numbered.all_orders(web, outcome), orders.can_come_last(web, outcome),
+            oneless.less(web, order, 4), moved.put_at(web, order, 4, 2), stars.star(web, 1), stars.all_choices(web),
+            stars.order_free(web, choice), most.tree_parts(web), most.greatest_choice(web),
         )
         before = copy.deepcopy(told)
         web[1][2][0] = 4
-        for own in (row, lot, places, outcome):
+        for own in (row, lot, places, outcome, order, choice):
             own.append(0)
         self.same(told, before)
 
