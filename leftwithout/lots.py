@@ -2,7 +2,9 @@
 
 from leftwithout.checks import as_tuples, is_numbers, is_set_below
 from leftwithout.errors import CanNot, Unfit
-from leftwithout.parts import kind_of, needless_in, need_web_and_lot, others_of, parts_of, steps_from, trees_of
+from leftwithout.parts import (
+    kind_of, needless_in, need_web_and_lot, others_of, parts_of, steps_but, steps_from, trees_of,
+)
 from leftwithout.runs import is_order, without_of
 
 
@@ -113,6 +115,4 @@ def _row_in(web, rest, part, places):
     if needless == ():
         start = [place for place in part if place in places][0]
         return [step[1] for step in steps_from(web, rest, start)]
-    first = needless[0]
-    later = [guest for guest in rest if guest != first]
-    return [first] + [step[1] for step in steps_from(web, later, web[1][first][0])]
+    return [needless[0]] + [step[1] for step in steps_but(web, rest, needless[0])]

@@ -80,16 +80,23 @@ def _most(web, choice):
     return len(web[1]) - web[0] + len(choice)
 
 
-def _greatest_choice(web):
-    """The least one of the CHOICES with the most PLACES; TooMany() if there are too many PLACES to choose from."""
-    stars = plain_stars(web)
+def greatest_apart(stars):
+    """The least one of the greatest sets of PLACES whose STARS are apart, of those with these STARS, told ascending.
+
+    TooMany() if there are too many PLACES to choose from.
+    """
     if len(stars) > MOST_SEARCHED:
         raise TooMany()
     return _greatest_of(stars, tuple(stars))
 
 
+def _greatest_choice(web):
+    """The least one of the CHOICES with the most PLACES."""
+    return greatest_apart(plain_stars(web))
+
+
 def _greatest_of(stars, places):
-    """The least one of the CHOICES with the most of these PLACES, which have these STARS."""
+    """The least one of the sets of the most of these PLACES, with these STARS, that are apart."""
     if places == ():
         return ()
     first = places[0]

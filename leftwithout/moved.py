@@ -24,14 +24,14 @@ def places_left(web, order, guest):
 def put_at(web, order, guest, number):
     """The ORDER of all others as they stand, with the GUEST at this place of it."""
     web, order = _need_all(web, order, guest, number)
-    return _put_at(order, guest, number)
+    return put_in(order, guest, number)
 
 
 def lost_and_won(web, order, guest, number):
     """The pair of the sets of the others who lose their PLACE, and who win one, with the GUEST put there."""
     web, order = _need_all(web, order, guest, number)
     before = _seated_but(web, order, guest)
-    after = _seated_but(web, _put_at(order, guest, number), guest)
+    after = _seated_but(web, put_in(order, guest, number), guest)
     lost = [own for own in before if own not in after]
     won = [own for own in after if own not in before]
     return (tuple(lost), tuple(won))
@@ -41,7 +41,7 @@ def latest(web, order, guest):
     """The greatest number at which the GUEST, put there, has a PLACE."""
     web, order = need_web_order_guest(web, order, guest)
     numbers = range(len(order))
-    return max([number for number in numbers if taking_of(web, _put_at(order, guest, number))[guest] is not None])
+    return max([number for number in numbers if taking_of(web, put_in(order, guest, number))[guest] is not None])
 
 
 def _need_all(web, order, guest, number):
@@ -56,8 +56,8 @@ def _need_all(web, order, guest, number):
     return (web, order)
 
 
-def _put_at(order, guest, number):
-    """The ORDER with the GUEST put at this place."""
+def put_in(order, guest, number):
+    """The ORDER, or the ROW, with the GUEST put at this place of it."""
     rest = but_one(order, guest)
     return rest[:number] + (guest,) + rest[number:]
 

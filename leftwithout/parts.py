@@ -154,6 +154,11 @@ def needless_in(web, lot, part):
     return tuple([guest for guest in _guests_in(web, lot, part) if guest not in needed])
 
 
+def steps_but(web, lot, first):
+    """How one comes from the wanted PLACE of this GUEST, a needless one of its PART, to all others without it."""
+    return steps_from(web, [guest for guest in lot if guest != first], web[1][first][0])
+
+
 def _need_all(web, lot, place):
     """The pair of the WEB and the LOT; refuses what is none, no number, no PLACE."""
     web, lot = need_web_and_lot(web, lot)

@@ -7,7 +7,7 @@ from leftwithout.webs import need_guest, need_web
 
 def is_row(web, thing):
     """Whether thing is a ROW of the WEB."""
-    return _is_row_of(need_web(web), thing)
+    return is_row_of(need_web(web), thing)
 
 
 def is_order(web, thing):
@@ -18,7 +18,7 @@ def is_order(web, thing):
 def need_row(web, row):
     """The ROW as a tuple; Unfit() if it is none of the WEB."""
     plain = as_tuples(row, 1)
-    if not _is_row_of(web, plain):
+    if not is_row_of(web, plain):
         raise Unfit()
     return plain
 
@@ -82,7 +82,7 @@ def next_seat(web, row, guest):
     need_guest(web, guest)
     if guest in row:
         raise CanNot()
-    return _seat_for(web[1][guest], taking_of(web, row))
+    return seat_for(web[1][guest], taking_of(web, row))
 
 
 def found_gone(web, row):
@@ -97,11 +97,11 @@ def taking_of(web, row):
     guests = web[1]
     taking = [None] * len(guests)
     for guest in row:
-        taking[guest] = _seat_for(guests[guest], taking)
+        taking[guest] = seat_for(guests[guest], taking)
     return tuple(taking)
 
 
-def _is_row_of(web, thing):
+def is_row_of(web, thing):
     """Whether thing is a ROW of what is sure to be a WEB."""
     if not is_numbers(thing) or len(set(thing)) != len(thing):
         return False
@@ -110,10 +110,10 @@ def _is_row_of(web, thing):
 
 def _is_order_of(web, thing):
     """Whether thing is an ORDER of what is sure to be a WEB."""
-    return _is_row_of(web, thing) and len(thing) == len(web[1])
+    return is_row_of(web, thing) and len(thing) == len(web[1])
 
 
-def _seat_for(pair, taking):
+def seat_for(pair, taking):
     """The first PLACE of the pair that nobody has in the TAKING, None if both are had."""
     for place in pair:
         if place not in taking:

@@ -101,7 +101,12 @@ def star_of(web, place):
 
 def plain_stars(web):
     """The dict that tells the STAR of each unwanted PLACE with a plain one, ascending."""
-    return {place: star_of(web, place) for place in unwanted(web) if _is_plain_at(web, place)}
+    return plain_stars_among(web, unwanted(web))
+
+
+def plain_stars_among(web, places):
+    """The dict that tells the STAR of each of these PLACES with a plain one."""
+    return {place: star_of(web, place) for place in places if _is_plain_at(web, place)}
 
 
 def are_apart(one, other):

@@ -42,6 +42,14 @@ def need_word(word):
     return plain
 
 
+def need_table_word(word):
+    """The WORD of two or more as a tuple; Unfit() if it is none."""
+    plain = need_word(word)
+    if len(plain) < 2:
+        raise Unfit()
+    return plain
+
+
 def need_place(web, place):
     """Raise NoPlace(place) if this number is no PLACE of the WEB."""
     if not 0 <= place < web[0]:

@@ -64,6 +64,16 @@ def orders_of(web):
     return permutations(range(len(web[1])))
 
 
+def wants_of(web):
+    """All WANTS of the WEB."""
+    return product((0, 1), repeat=len(web[1]))
+
+
+def wanting_by_hand(web, wants):
+    """The WEB with the ends of each GUEST exchanged that has 1."""
+    return (web[0], tuple((other, wish) if own else (wish, other) for (wish, other), own in zip(web[1], wants)))
+
+
 def seats_by_hand(web, row):
     """Told one by one: (guest, its place or None) in the order of the row."""
     free, told = dict.fromkeys(range(web[0]), True), []
@@ -208,3 +218,8 @@ NO_ORDERS = NO_ROWS + ((), (0, 1, 2, 3), (0, 1, 2, 3, 4, 4), [1, 2, 3, 4, 5])
 NO_LOTS = NO_ROWS + ((1, 0), (0, 2, 1), (4, 5), (0, 1, 1), [2, 2], (0, None), (0, "1"))
 
 NO_WORDS = NOTHING_AT_ALL + ((), [], (2,), (-1,), (0, 2), (0, -1), (0, True), (0, None), (0, 1.0), (0, (1,)), (0, "1"))
+
+# These are no WANTS of a WEB of five GUESTS.
+NO_WANTS = NOTHING_AT_ALL + (
+    (), (0, 1, 0, 1), (0, 1, 0, 1, 2), (0, 1, 0, 1, -1), [0, True, 0, 0, 0], (0, 1, 0, 1, None), (0,) * 6,
+)
