@@ -1,4 +1,4 @@
-"""[27]: names and arguments, and that each is defined in its own file."""
+"""[27]: names and arguments, and that each is defined in its own file; the methods of the Desk in its class."""
 
 import ast
 import importlib
@@ -89,7 +89,45 @@ INTERFACE = {
         "fewest_order": ("web",), "can_be_so_many": ("web", "number"), "lot_of": ("web", "number"),
         "order_so_many": ("web", "number"), "is_order_so_many": ("web", "number", "thing"),
     },
+    "counts": {
+        "shares": ("web",), "chance": ("web", "guest"), "by_without": ("web",), "free_orders": ("web",),
+        "how_many_lots": ("web",), "lots": ("web",), "how_many_outcomes": ("web",),
+    },
+    "passes": {"line_orders": ("word",), "table_orders": ("word",), "line_lots": ("word",), "table_lots": ("word",)},
+    "tables": {
+        "nooks": ("word",), "can_at_table": ("word", "lot"), "gaps": ("word", "lot"), "order_at_table": ("word", "lot"),
+        "is_order_at_table": ("word", "lot", "thing"), "closed_gap": ("word", "lot"),
+        "is_closed_gap": ("word", "lot", "thing"), "most_at_table": ("word",), "lots_at_table": ("word",),
+        "many_words": ("number", "lot"), "word_for": ("number", "lot"), "is_word_for": ("number", "lot", "thing"),
+        "fits": ("number",),
+    },
+    "texts": {
+        "is_sheet": ("thing",), "sheet_text": ("sheet",), "read_sheet": ("text",), "web_text": ("web",),
+        "read_web": ("text",), "picture": ("word", "taking"), "read_picture": ("text",),
+    },
+    "wants": {
+        "is_wants": ("web", "thing"), "with_wants": ("web", "wants"), "wants_fit": ("web", "row", "taking", "wants"),
+        "can_be_seen": ("web", "row", "taking"), "how_many_wants": ("web", "row", "taking"),
+        "sure_wants": ("web", "row", "taking"), "told_by": ("web", "row"), "drains": ("web",), "most_told": ("web",),
+        "telling_order": ("web",), "is_telling": ("web", "thing"),
+    },
+    "anywants": {
+        "can_some_want": ("web", "lot"), "can_all_want": ("web", "lot"), "wants_for": ("web", "lot"),
+        "wants_against": ("web", "lot"), "is_wants_for": ("web", "lot", "thing"),
+        "is_wants_against": ("web", "lot", "thing"), "most_some_want": ("web",), "stars_apart": ("web",),
+        "is_stars_apart": ("web", "thing"), "wants_for_most": ("web",), "is_steady": ("web",), "steady_wants": ("web",),
+    },
+    "judge": {
+        "is_demand": ("thing",), "is_so": ("demand",), "paper_against": ("demand",),
+        "is_paper_against": ("demand", "thing"), "reason_for": ("demand",), "is_reason_for": ("demand", "thing"),
+        "first_fallen": ("demands",),
+    },
+    "desk": {"Desk": ("web",)},
 }
+
+CLASSES = ("errors", "desk")
+
+METHODS = {"say": ("text",), "web": (), "row": (), "taking": (), "undo": (), "redo": (), "twin": (), "__eq__": ("other",)}
 
 
 class Interface(unittest.TestCase):
@@ -116,10 +154,16 @@ class Interface(unittest.TestCase):
             module = importlib.import_module("leftwithout." + file)
             with open(module.__file__, encoding="utf-8") as source:
                 tree = ast.parse(source.read())
-            kind = ast.ClassDef if file == "errors" else ast.FunctionDef
+            kind = ast.ClassDef if file in CLASSES else ast.FunctionDef
             defined = {node.name for node in tree.body if isinstance(node, kind)}
             with self.subTest(file):
                 self.assertEqual(set(names) - defined, set())
+
+    def test_methods_of_the_desk(self):
+        told = importlib.import_module("leftwithout.desk").Desk
+        for name, arguments in METHODS.items():
+            with self.subTest(name):
+                self.check_arguments(vars(told)[name], ("self",) + arguments)
 
 
 if __name__ == "__main__":

@@ -1,4 +1,4 @@
-"""[2] and [3]: what holds for every function of the modules that work on WEBS.
+"""[2] and [3]: what holds for every function that works on WEBS and WORDS.
 
 Lists for tuples, names for positions, nothing handed in is changed, and
 refusals in the order in which the document states them.
@@ -9,10 +9,13 @@ import inspect
 import unittest
 from itertools import product
 
-from small import NO_LOTS, NO_NUMBERS, NO_ORDERS, NO_ROWS, NO_WEBS, NO_WORDS, NOTHING_AT_ALL, as_lists, as_mixed
+from small import (
+    NO_LOTS, NO_NUMBERS, NO_ORDERS, NO_ROWS, NO_WANTS, NO_WEBS, NO_WORDS, NOTHING_AT_ALL, as_lists, as_mixed, nested,
+)
 
 from leftwithout import (
-    changed, lots, most, moved, numbered, oneless, orders, parts, rings, runs, stars, takings, together, webs,
+    anywants, changed, counts, judge, lots, most, moved, numbered, oneless, orders, parts, passes, rings, runs, stars,
+    tables, takings, texts, together, wants, webs,
 )
 from leftwithout.errors import CanNot, NoGuest, NoPlace, TooMany, Unfit
 
@@ -23,7 +26,8 @@ BENCH = (3, ((1, 0), (1, 2), (1, 0)))
 # Each function with the kinds of its arguments. Two kinds of one name are told
 # apart by a word behind it: a goal is a place of the other web, an each a
 # tuple of all numbers, a set a set of places, a pair a guest that is to come,
-# a count a number from 0, any number fits as a number.
+# a count a number from 0, a two a number from 2, any number fits as a number; a
+# table is a word of two or more, with a taking of it, a row taking one of (2, 1).
 FUNCTIONS = (
     (webs.sizes, ("web",)), (webs.unwanted, ("web",)), (webs.wanted, ("web", "guest")),
     (webs.other_end, ("web", "guest")), (webs.ends, ("web", "guest")), (webs.guests_at, ("web", "place")),
@@ -79,16 +83,44 @@ FUNCTIONS = (
     (most.fewest, ("web",)), (most.most, ("web",)), (most.tree_parts, ("web",)), (most.greatest_choice, ("web",)),
     (most.fewest_order, ("web",)), (most.can_be_so_many, ("web", "number")), (most.lot_of, ("web", "number")),
     (most.order_so_many, ("web", "number")), (most.is_order_so_many, ("web", "number", "thing")),
+    (counts.shares, ("web",)), (counts.chance, ("web", "guest")), (counts.by_without, ("web",)),
+    (counts.free_orders, ("web",)), (counts.how_many_lots, ("web",)), (counts.lots, ("web",)),
+    (counts.how_many_outcomes, ("web",)),
+    (passes.line_orders, ("word",)), (passes.table_orders, ("table",)), (passes.line_lots, ("word",)),
+    (passes.table_lots, ("table",)),
+    (tables.nooks, ("table",)), (tables.can_at_table, ("table", "lot")), (tables.gaps, ("table", "lot")),
+    (tables.order_at_table, ("table", "lot")), (tables.is_order_at_table, ("table", "lot", "thing")),
+    (tables.closed_gap, ("table", "lot")), (tables.is_closed_gap, ("table", "lot", "thing")),
+    (tables.most_at_table, ("table",)), (tables.lots_at_table, ("table",)), (tables.many_words, ("two", "lot")),
+    (tables.word_for, ("two", "lot")), (tables.is_word_for, ("two", "lot", "thing")), (tables.fits, ("two",)),
+    (texts.is_sheet, ("thing",)), (texts.sheet_text, ("sheet",)), (texts.web_text, ("web",)),
+    (texts.picture, ("table", "table taking")),
+    (wants.is_wants, ("web", "thing")), (wants.with_wants, ("web", "wants")),
+    (wants.wants_fit, ("web", "row", "row taking", "wants")), (wants.can_be_seen, ("web", "row", "row taking")),
+    (wants.how_many_wants, ("web", "row", "row taking")), (wants.sure_wants, ("web", "row", "row taking")),
+    (wants.told_by, ("web", "row")), (wants.drains, ("web",)), (wants.most_told, ("web",)),
+    (wants.telling_order, ("web",)), (wants.is_telling, ("web", "thing")),
+    (anywants.can_some_want, ("web", "lot")), (anywants.can_all_want, ("web", "lot")),
+    (anywants.wants_for, ("web", "lot")), (anywants.wants_against, ("web", "lot")),
+    (anywants.is_wants_for, ("web", "lot", "thing")), (anywants.is_wants_against, ("web", "lot", "thing")),
+    (anywants.most_some_want, ("web",)), (anywants.stars_apart, ("web",)), (anywants.is_stars_apart, ("web", "thing")),
+    (anywants.wants_for_most, ("web",)), (anywants.is_steady, ("web",)), (anywants.steady_wants, ("web",)),
+    (judge.is_demand, ("thing",)), (judge.is_so, ("demand",)), (judge.paper_against, ("demand",)),
+    (judge.is_paper_against, ("demand", "thing")), (judge.reason_for, ("demand",)),
+    (judge.is_reason_for, ("demand", "thing")), (judge.first_fallen, ("demands",)),
 )
 
-LISTS = (rings.rings, numbered.all_orders, oneless.less, stars.all_choices)
+LISTS = (rings.rings, numbered.all_orders, oneless.less, stars.all_choices, counts.lots, wants.drains)
 
 # One that fits the HALL, and BENCH as the other web.
 FITS = {
     "web": HALL, "other web": BENCH, "word": (0, 1), "guest": 4, "place": 3, "goal": 1, "row": (2, 1),
     "order": (4, 2, 1, 0, 3), "lot": (1, 3), "taking": (0, 2, None, 1, 3), "place each": (4, 2, 0, 1, 3),
     "guest each": (1, 0, 2, 4, 3), "pair": (4, 0), "set": (4,), "thing": (0, 1), "outcome": (0, None, 2, 3, 1),
-    "ring": (3, 4, 3), "count": 5, "number": 1, "choice": (4,),
+    "ring": (3, 4, 3), "count": 5, "number": 1, "choice": (4,), "table": (0, 1, 1, 0, 1), "two": 5,
+    "table taking": (0, 2, None, 3, 4), "row taking": (None, 1, 2, None, None), "wants": (0, 1, 0, 0, 1),
+    "sheet": (HALL, ((2, 1), ()), ((1, 3),)), "demand": ("without", HALL, (3,)),
+    "demands": (("together", HALL, (3,)), ("many", HALL, 1), ("orders", LINE, (0, 2, 3), 6)),
 }
 
 GOOD = {
@@ -99,6 +131,14 @@ GOOD = {
     "place each": (FITS["place each"], (3, 1, 0, 2), (0,)), "guest each": (FITS["guest each"], (1, 2, 0), ()),
     "pair": ((0, 1), (3, 0), (4, 2)), "set": ((), (4,), (0, 2)), "outcome": (FITS["outcome"], (0, 2, 3), (), (1,)),
     "ring": (FITS["ring"], (4, 3, 4), (0, 1, 0)), "count": (0, 1, 7), "number": (0, 1, 2, -1), "choice": ((), (4,), (1, 3), (0,)),
+    "table": (FITS["table"], (1, 0), (0, 1, 1)), "two": (2, 3, 7), "table taking": (FITS["table taking"], (0, None), (1, 2, 0)),
+    "row taking": (FITS["row taking"], (None, 1, None), ()), "wants": (FITS["wants"], (0, 1, 1), ()),
+    "sheet": (FITS["sheet"], (LINE, (), ()), ((1, ()), ((),), ((), ()))),
+    "demand": (
+        FITS["demand"], ("without", HALL, (0, 1)), ("together", LINE, ()), ("outcome", HALL, FITS["outcome"]),
+        ("outcome", LINE, (None, None, None)), ("many", HALL, 2), ("orders", LINE, (0, 2, 3), 5), ("many", (17, ()), 0),
+    ),
+    "demands": ((), FITS["demands"], (FITS["demand"], ("without", HALL, (0, 1)), FITS["demand"])),
 }
 
 NO_EACH = NOTHING_AT_ALL + ((), (0, 1, 2, 3), (1, 2, 3, 4, 5), [0, 0, 1, 2, 3], (0, 1, 2, 3, 4, 5), (0, True, 2, 3, 4))
@@ -110,7 +150,13 @@ UNFIT = {
     "lot": NO_LOTS, "other web": NO_WEBS, "goal": NO_NUMBERS, "place each": NO_EACH, "guest each": NO_EACH, "set": NO_LOTS,
     "taking": NO_TAKINGS, "outcome": NO_TAKINGS + ((None,) * 5, [0, 2, None, 1, 3], (0, 1, None, 3, None)),
     "ring": NOTHING_AT_ALL + ((), (3, 4), (3, 4, 4), (0, 1, 0), (3, 4, 3, 4, 3), [4, True, 4]), "count": NO_NUMBERS + (-1, -5),
-    "number": NO_NUMBERS, "choice": NO_LOTS + ((0,), (3, 4), [4, 4]),
+    "number": NO_NUMBERS, "choice": NO_LOTS + ((0,), (3, 4), [4, 4]), "table": NO_WORDS + ((1,), [0]),
+    "two": NO_NUMBERS + (1, 0, -2), "wants": NO_WANTS,
+    "table taking": NO_TAKINGS + ((1, 2, 2, 3, 4), [2, None, None, None, None]),
+    "row taking": NO_TAKINGS + ((0, 1, 2, None, None), [None, 1, 2, True, None], (None, 3, 2, None, None)),
+    "sheet": NO_WEBS + ((HALL, ()), (HALL, ((1, 1),), ()), (HALL, (), ((2, 1),)), [HALL, [], [5]]),
+    "demand": NO_WEBS + (("without", HALL), ("many", HALL, -1), ["outcome", HALL, [None]], ("lot", HALL, ())),
+    "demands": NOTHING_AT_ALL + ((FITS["demand"], None), FITS["demand"], [("without", HALL, (5,))]),
     "pair": NOTHING_AT_ALL + ((), (0,), (1, 1), (0, 5), (-1, 0), [0, True], (0, 1, 2)),
 }
 
@@ -170,7 +216,7 @@ class Arguments(unittest.TestCase):
 
     def test_what_is_handed_in_and_later_changed_changes_no_result(self):
         web, row, lot, places, outcome = as_lists(HALL), [2, 1], [0, 1, 2], [4, 3, 2, 1, 0], list(FITS["outcome"])
-        order, choice = [4, 2, 1, 0, 3], [4]
+        order, choice, ones = [4, 2, 1, 0, 3], [4], [0, 1, 0, 0, 1]
         told = (
             webs.ends(web, 2), webs.word_of(as_lists(LINE)), runs.seated(web, row), runs.moments(web, row),
             parts.others(web, lot), parts.round_in(web, lot, 0), changed.renamed(web, places, places),
@@ -179,10 +225,13 @@ class Arguments(unittest.TestCase):
             numbered.all_orders(web, outcome), orders.can_come_last(web, outcome),
             oneless.less(web, order, 4), moved.put_at(web, order, 4, 2), stars.star(web, 1), stars.all_choices(web),
             stars.order_free(web, choice), most.tree_parts(web), most.greatest_choice(web),
+            counts.shares(web), counts.lots(web), tables.gaps(ones, lot), texts.sheet_text([web, [row], [lot]]),
+            wants.with_wants(web, ones), wants.drains(web), anywants.wants_for(web, [3]), anywants.stars_apart(web),
+            judge.paper_against(["without", web, lot]), judge.reason_for(["many", web, 1]),
         )
         before = copy.deepcopy(told)
         web[1][2][0] = 4
-        for own in (row, lot, places, outcome, order, choice):
+        for own in (row, lot, places, outcome, order, choice, ones):
             own.append(0)
         self.same(told, before)
 
@@ -201,6 +250,35 @@ class Arguments(unittest.TestCase):
                     before = list(told)
                     told.append(None)
                     self.same(answer(function, values), ("value", before))
+
+
+class Things(unittest.TestCase):
+    """A thing may be any value: each function tells True or False of it, and nothing else."""
+
+    things = NOTHING_AT_ALL + NO_WEBS + NO_LOTS + NO_WANTS + tuple(UNFIT["sheet"]) + tuple(UNFIT["demand"]) + (
+        10 ** 5000, -10 ** 5000, (10 ** 5000,), (0,) * 5000, tuple(range(5000)), ((0, 1),) * 5000, "a" * 5000, nested(20),
+        (10 ** 5000, ()), (5, ((0, 1),) * 5000), ((10 ** 5000, ()), ((),) * 5000, ((),) * 5000), (("lacking", 0), "ring"),
+        ("lacking", 10 ** 5000), ("ring", ()), ("ring", (3, 4, 3)), ("lacking", True), ("wanted", 4, 0), ("near",), (((0,),),),
+        ("wanted", [4], 0), (["wanted"], 4, 0), ("many", (10 ** 9, ()), 10 ** 5000), ("outcome", (5, ((0, 1),) * 500), (None,) * 500),
+    ) + tuple(own for kind in GOOD for own in GOOD[kind])
+
+    def test_each_thing_is_told(self):
+        for function, kinds in FUNCTIONS:
+            if kinds[-1] == "thing":
+                values = [FITS[kind] for kind in kinds[:-1]]
+                for k, thing in enumerate(self.things):
+                    with self.subTest(function.__name__, k=k):
+                        self.assertIn(answer(function, values + [thing]), (("value", True), ("value", False)))
+                        self.assertIsInstance(function(*values, thing), bool)
+
+    def test_what_is_true_is_no_list_and_has_no_list(self):
+        for function, kinds in FUNCTIONS:
+            if kinds[-1] == "thing":
+                values = [FITS[kind] for kind in kinds[:-1]]
+                for thing in self.things:
+                    if function(*values, thing) and not isinstance(thing, int):
+                        self.assertIsInstance(thing, tuple)
+                        self.assertIs(function(*values, list(thing)), False)
 
 
 class Refusals(unittest.TestCase):
